@@ -1,0 +1,1 @@
+"""Ringhues: hues on a ring."""

@@ -1,0 +1,104 @@
+"""What the tests share: odd things, small webs and rings, and looking twice."""
+
+import copy
+import itertools
+import unittest
+
+from ringhues.errors import HueError, NoWeb
+
+
+def nested(make, deep):
+    thing = make(0)
+    for _ in range(deep - 1):
+        thing = make(thing)
+    return thing
+
+
+ODD = [
+    None, True, False, 0, 1, 2, 7, -1, 24, 10 ** 99, -(10 ** 99) + 1,
+    "", " ", "web", "0", "end", "(1, ())", "~",
+    [], (), {}, [0], (0,), (True,), (None,), (None, None), [None], ["end", 0], {"a": 1}, {0: 0, 1: ()},
+    {(0, 1): [None]}, (0, 1), [0, 1], (1, 2), ("a", "b"), ([], {}), ((), ()), [(0, 1)], ((0, 1),), (0, 1, 2),
+    nested(lambda thing: [thing], 20),
+    nested(lambda thing: (thing,), 20),
+    nested(lambda thing: {"in": thing}, 20),
+    nested(lambda thing: (1, thing), 20),
+    nested(lambda thing: ("case", 0, (thing,)), 10),
+]
+
+# What is no web, of each kind, beside odd things.
+NO_WEBS = ODD + [
+    (0, ()), (9, ()), (True, ()), (False, ()), (None, ()), ("1", ()), ((1,), ()), (-1, ()), (10 ** 99, ()),
+    [1, ()], (1, []), (1, {}), (1, None), (1, 0), (1, ""), (1,), (1, (), ()),
+    (3, [(0, 1)]), (3, ([0, 1],)), [3, ((0, 1),)], (3, "01"), (3, (None,)), (3, ("01",)), (3, ({},)), (3, (0, 1)),
+    (3, ((0, 2), (0, 1))), (3, ((0, 1), (0, 1))), (3, ((1, 0),)), (3, ((1, 1),)), (3, ((0, 3),)), (3, ((-1, 0),)),
+    (3, ((0, 1), (0, 2), (0, 3))), (3, ((0, True),)), (3, ((False, 1),)), (3, ((0, 1, 2),)), (3, ((0,),)), (3, ((),)),
+    (3, (("0", "1"),)), (3, ((0, None),)), (3, ((0, [1]),)), (3, ((0, 1), None)), (1, ((0, 1),)),
+    (3, ((1, 2), (0, 1))), (3, (nested(lambda thing: (thing,), 18),)),
+]
+
+NO_RINGS = ODD + [
+    (0, 0), (25, 1), (25, 25), (24, 25), (1, 0), (5, 6), (5, 0), (5, -1), (-5, 1), (-5, -5),
+    (True, 1), (1, True), (True, True), (5, True), [5, 2], (5,), (5, 2, 1), ("5", "2"), ("5", 2), (5, None), (None, 2),
+    ((5, 2),), ([5], 2), (5, [2]), "5/2", {5: 2}, (10 ** 99, 1), (5, 10 ** 99),
+]
+
+
+def all_webs(many):
+    pairs = list(itertools.combinations(range(many), 2))
+    for picks in itertools.product((False, True), repeat=len(pairs)):
+        yield (many, tuple(pair for pair, pick in zip(pairs, picks) if pick))
+
+
+def rings_to(most):
+    return [(k, d) for k in range(1, most + 1) for d in range(1, k + 1)]
+
+
+def whole_web(many):
+    return (many, tuple(itertools.combinations(range(many), 2)))
+
+
+def round_web(many):
+    return (many, tuple(sorted(tuple(sorted((i, (i + 1) % many))) for i in range(many))))
+
+
+def plain_gap(k, one, other):
+    """How far apart, by walking both ways: not as the program reckons it."""
+    onward = next(n for n in range(k) if (one + n) % k == other)
+    backward = next(n for n in range(k) if (one - n) % k == other)
+    return min(onward, backward)
+
+
+def plainly_hues(web, ring, row):
+    return all(plain_gap(ring[0], row[i], row[j]) >= ring[1] for i, j in web[1])
+
+
+def plain_search(web, ring):
+    """All hues, as tuples rise, by going through all tuples."""
+    return [row for row in itertools.product(range(ring[0]), repeat=web[0]) if plainly_hues(web, ring, row)]
+
+
+class Checks(unittest.TestCase):
+    def refused(self, kind, call, *things, **named):
+        """The refusal, of its very class; what was handed in stays as it is."""
+        before = copy.deepcopy((things, named))
+        with self.assertRaises(HueError) as caught:
+            call(*things, **named)
+        self.assertEqual(type(caught.exception), kind, (things, named))
+        self.assertEqual(repr(before), repr((things, named)))
+        return caught.exception
+
+    def no_web(self, at, call, *things, **named):
+        self.assertEqual(self.refused(NoWeb, call, *things, **named).at, at, (things, named))
+
+    def told(self, call, *things, **named):
+        """The answer, the same when asked twice; what was handed in stays as it is."""
+        before = repr((things, named))
+        first = call(*things, **named)
+        again = call(*things, **named)
+        self.assertEqual(repr(first), repr(again))
+        self.assertEqual(before, repr((things, named)))
+        return first
+
+    def says(self, truth, call, *things, **named):
+        self.assertIs(self.told(call, *things, **named), truth, (things, named))
