@@ -78,6 +78,19 @@ def plain_search(web, ring):
     return [row for row in itertools.product(range(ring[0]), repeat=web[0]) if plainly_hues(web, ring, row)]
 
 
+def plain_first(web, ring, head=()):
+    """The first hues, place by place, with nothing clever: for webs and rings where that is quick."""
+    if len(head) == web[0]:
+        return head
+    near = [head[i] for i, j in web[1] if j == len(head)]
+    for spot in range(ring[0]):
+        if all(plain_gap(ring[0], spot, other) >= ring[1] for other in near):
+            found = plain_first(web, ring, head + (spot,))
+            if found is not None:
+                return found
+    return None
+
+
 class Checks(unittest.TestCase):
     def refused(self, kind, call, *things, **named):
         """The refusal, of its very class; what was handed in stays as it is."""
