@@ -3,7 +3,7 @@
 A row of free spots has, for each place, the tuple of the spots that it may still get; None for a place that is settled.
 """
 
-from ringhues.webs import tied_to
+from ringhues.webs import all_ends
 
 
 class Board:
@@ -11,7 +11,7 @@ class Board:
 
     def __init__(self, web, ring):
         k, d = ring
-        self.ends = [tied_to(web, place) for place in range(web[0])]
+        self.ends = all_ends(web)
         self.spots = tuple(range(k))
         self.wide = [min(gap, k - gap) >= d for gap in range(k)]
 

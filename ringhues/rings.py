@@ -43,3 +43,16 @@ def gap_of(ring, one, other):
     """What steps_apart tells, of a ring and spots that are looked at already."""
     gap = abs(one - other)
     return min(gap, ring[0] - gap)
+
+
+def is_shorter(one, other):
+    """Whether one length is less than another one, each told as two numbers, as a ring tells its own."""
+    return one[0] * other[1] < other[0] * one[1]
+
+
+def lowest_terms(top, bottom):
+    """The fraction of two whole numbers from 1 on, in lowest terms."""
+    common, rest = top, bottom
+    while rest > 0:
+        common, rest = rest, common % rest
+    return (top // common, bottom // common)

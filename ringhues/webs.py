@@ -81,3 +81,8 @@ def tied_to(web, place):
     """What ends_of tells, of a web and a place that are looked at already."""
     ends = [other if one == place else one for one, other in web[1] if place in (one, other)]
     return tuple(sorted(ends))
+
+
+def all_ends(web):
+    """What ends_of tells, of each place of a web that is looked at already."""
+    return [tied_to(web, place) for place in range(web[0])]

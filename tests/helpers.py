@@ -1,7 +1,10 @@
 """What the tests share: odd things, small webs and rings, and looking twice."""
 
 import copy
+import fractions
+import functools
 import itertools
+import random
 import unittest
 
 from ringhues.errors import HueError, NoWeb
@@ -43,6 +46,11 @@ NO_RINGS = ODD + [
     ((5, 2),), ([5], 2), (5, [2]), "5/2", {5: 2}, (10 ** 99, 1), (5, 10 ** 99),
 ]
 
+# What is no place of a web of three places.
+NO_PLACES = [thing for thing in ODD if thing not in (0, 1, 2) or isinstance(thing, bool)] + [
+    3, -1, True, False, "0", "", (0,), [0], None, 10 ** 99, -(10 ** 99),
+]
+
 
 def all_webs(many):
     pairs = list(itertools.combinations(range(many), 2))
@@ -62,6 +70,20 @@ def round_web(many):
     return (many, tuple(sorted(tuple(sorted((i, (i + 1) % many))) for i in range(many))))
 
 
+def drawn_webs(many, count):
+    """Some webs of so many places, sparse and dense, the same ones each time."""
+    draw = random.Random(many * 1000 + count)
+    pairs = list(itertools.combinations(range(many), 2))
+    for at in range(count):
+        often = (at % 5 + 1) / 6
+        yield (many, tuple(pair for pair in pairs if draw.random() < often))
+
+
+def length(ring):
+    return fractions.Fraction(*ring)
+
+
+@functools.lru_cache(maxsize=None)
 def plain_gap(k, one, other):
     """How far apart, by walking both ways: not as the program reckons it."""
     onward = next(n for n in range(k) if (one + n) % k == other)
@@ -91,6 +113,12 @@ def plain_first(web, ring, head=()):
     return None
 
 
+def plain_shortest(web):
+    """The plain ring of the least length with room, by trying each ring with no more spots than places."""
+    least = min(length(ring) for ring in rings_to(web[0]) if plain_first(web, ring) is not None)
+    return (1, 1) if not web[1] else (least.numerator, least.denominator)
+
+
 class Checks(unittest.TestCase):
     def refused(self, kind, call, *things, **named):
         """The refusal, of its very class; what was handed in stays as it is."""
@@ -115,3 +143,23 @@ class Checks(unittest.TestCase):
 
     def says(self, truth, call, *things, **named):
         self.assertIs(self.told(call, *things, **named), truth, (things, named))
+
+    def takes(self, call, names, *sound):
+        """The answer, the same by place and by name, whatever the order of the names."""
+        names = names.split()
+        self.assertEqual(len(names), len(sound))
+        answer = self.told(call, *sound)
+        named = list(zip(names, sound))
+        for at in range(len(sound) + 1):
+            mixed = call(*sound[:at], **dict(reversed(named[at:])))
+            self.assertEqual(repr(mixed), repr(answer))
+        return answer
+
+    def in_order(self, call, sound, refusals):
+        """Each argument is refused for what is none, whatever stands behind it, and not for what stands behind it."""
+        for at, (kind, things) in enumerate(refusals):
+            for thing in things:
+                for behind in (sound[at + 1:], (None,) * len(sound[at + 1:]), ((thing,),) * len(sound[at + 1:])):
+                    wrong = self.refused(kind, call, *sound[:at], thing, *behind)
+                    if kind is NoWeb:
+                        self.assertEqual(wrong.at, -1)

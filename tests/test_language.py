@@ -32,6 +32,9 @@ NO_NODES = (
     ast.With, ast.Global, ast.Nonlocal, ast.Yield, ast.YieldFrom, ast.Await, ast.AsyncFunctionDef, ast.AsyncFor,
     ast.AsyncWith, ast.GeneratorExp, ast.NamedExpr, ast.Div, ast.Match, ast.Import, ast.Delete, ast.MatMult,
 )
+WALKED = {"range", "zip", "enumerate", "reversed"}
+WALKED_METHODS = {"items", "keys", "values"}
+WALKERS = set("list tuple dict sorted sum any all enumerate zip bytes min max".split())
 UNDERSCORED = {"__init__", "__eq__", "__repr__", "__str__", "__len__"}
 
 
@@ -68,6 +71,56 @@ class LanguageTest(unittest.TestCase):
             head, _, module = node.module.partition(".")
             self.assertEqual(head, "ringhues", where)
             self.assertIn(module, modules, where)
+
+    def test_no_two_files_draw_from_one_another(self):
+        drawn = {name.removesuffix(".py"): set() for name, _ in self.trees()}
+        for name, tree in self.trees():
+            for node in ast.walk(tree):
+                if isinstance(node, ast.ImportFrom):
+                    drawn[name.removesuffix(".py")].add(node.module.partition(".")[2])
+        while drawn:
+            free = {name for name, others in drawn.items() if not others}
+            self.assertTrue(free, drawn)
+            drawn = {name: others - free for name, others in drawn.items() if name not in free}
+
+    def test_names_are_drawn_from_the_file_that_defines_them(self):
+        defined = {}
+        for name, tree in self.trees():
+            rows = [row.name for row in tree.body if isinstance(row, (ast.FunctionDef, ast.ClassDef))]
+            rows += [target.id for row in tree.body if isinstance(row, ast.Assign) for target in row.targets]
+            self.assertEqual(len(rows), len(set(rows)), name)
+            defined["ringhues." + name.removesuffix(".py")] = rows
+        for where, node in self.nodes(ast.ImportFrom):
+            for alias in node.names:
+                self.assertIn(alias.name, defined[node.module], where)
+
+    def test_walked_at_once(self):
+        for name, tree in self.trees():
+            around = {child: node for node in ast.walk(tree) for child in ast.iter_child_nodes(node)}
+            for node in around:
+                if isinstance(node, ast.Call) and (
+                    getattr(node.func, "id", "") in WALKED or getattr(node.func, "attr", "") in WALKED_METHODS
+                ):
+                    self.assertTrue(self.is_walked(around[node], node), f"{name}:{node.lineno}")
+
+    def is_walked(self, outer, node):
+        if isinstance(outer, (ast.For, ast.comprehension)):
+            return outer.iter is node
+        if isinstance(outer, ast.Call):
+            called = getattr(outer.func, "id", "")
+            return called in WALKERS or called == "reversed" and getattr(node.func, "id", "") == "range"
+        return False
+
+    def test_sets_are_not_kept(self):
+        # Narrower than need be: what this package has use for.
+        for name, tree in self.trees():
+            around = {child: node for node in ast.walk(tree) for child in ast.iter_child_nodes(node)}
+            for node in around:
+                made = isinstance(node, ast.Call) and getattr(node.func, "id", "") in ("set", "frozenset")
+                if made or isinstance(node, (ast.Set, ast.SetComp)):
+                    outer = around[node]
+                    self.assertIsInstance(outer, ast.Call, f"{name}:{node.lineno}")
+                    self.assertIn(getattr(outer.func, "id", ""), ("len", "sorted"), f"{name}:{node.lineno}")
 
     def test_forms(self):
         for where, node in self.nodes(ast.AST):
