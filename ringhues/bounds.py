@@ -1,10 +1,11 @@
 """The bound of arrows, and arrows and hues of one another."""
 
 from ringhues.arrows import all_rounds, along_pairs, arrow_pairs, check_arrows
-from ringhues.errors import Apart, TooGreat
+from ringhues.errors import Apart
 from ringhues.hues import check_hues
 from ringhues.rings import is_shorter, lowest_terms
 from ringhues.shortest import shortest
+from ringhues.things import check_most
 from ringhues.webs import check_web
 
 MOST_TIES = 10
@@ -34,8 +35,7 @@ def best_arrows(web):
     """The first arrows, as tuples rise, that have the least bound."""
     check_web(web)
     many = len(web[1])
-    if many > MOST_TIES:
-        raise TooGreat(many, MOST_TIES)
+    check_most(many, MOST_TIES)
     rounds = all_rounds(web)
     rows = all_arrows(many)
     least = shortest(web)

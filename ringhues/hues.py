@@ -22,7 +22,7 @@ def turned_on(web, ring, hues, steps):
 def mirrored_hues(web, ring, hues):
     """The hues with each spot s at k less s, 0 staying."""
     check_hues(web, ring, hues)
-    return tuple([-spot % ring[0] for spot in hues])
+    return mirrored(ring, hues)
 
 
 def first_clash(web, ring, spots):
@@ -32,6 +32,11 @@ def first_clash(web, ring, spots):
     if not are_spots(web, ring, spots):
         raise NoHues("not a spot of the ring for each place")
     return clash_of(web, ring, spots)
+
+
+def mirrored(ring, hues):
+    """What mirrored_hues tells, of hues that are looked at already."""
+    return tuple([-spot % ring[0] for spot in hues])
 
 
 def are_spots(web, ring, thing):

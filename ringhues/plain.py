@@ -1,10 +1,10 @@
 """Plain hues: numbers instead of spots, unlike for tied places."""
 
-from ringhues.errors import NoHues, TooGreat
+from ringhues.errors import NoHues
 from ringhues.found import first_hues
 from ringhues.hues import check_hues
 from ringhues.shortest import has_room
-from ringhues.things import is_row, is_whole
+from ringhues.things import check_most, is_row, is_whole
 from ringhues.webs import check_web
 
 GREATEST_NUMBER = 11
@@ -42,8 +42,7 @@ def ring_by(web, plain):
     """A ring on which plain hues are hues, and they."""
     check_plain(web, plain)
     greatest = max(plain)
-    if greatest > GREATEST_NUMBER:
-        raise TooGreat(greatest, GREATEST_NUMBER)
+    check_most(greatest, GREATEST_NUMBER)
     return ((max(greatest + 1, 2), 1), plain)
 
 

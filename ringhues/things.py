@@ -1,5 +1,7 @@
 """What the other files share: looking at whatever is handed in."""
 
+from ringhues.errors import TooGreat
+
 
 def is_whole(thing):
     """Whether a thing is a whole number; True and False are none."""
@@ -14,3 +16,9 @@ def is_within(thing, least, most):
 def is_row(thing, many):
     """Whether a thing is a tuple of so many things."""
     return isinstance(thing, tuple) and len(thing) == many
+
+
+def check_most(many, most):
+    """Refuse more than there may be."""
+    if many > most:
+        raise TooGreat(many, most)

@@ -113,6 +113,7 @@ def plain_first(web, ring, head=()):
     return None
 
 
+@functools.lru_cache(maxsize=None)
 def plain_shortest(web):
     """The plain ring of the least length with room, by trying each ring with no more spots than places."""
     least = min(length(ring) for ring in rings_to(web[0]) if plain_first(web, ring) is not None)

@@ -1,4 +1,5 @@
-from ringhues.things import is_row, is_whole, is_within
+from ringhues.errors import TooGreat
+from ringhues.things import check_most, is_row, is_whole, is_within
 from tests.helpers import ODD, Checks
 
 
@@ -18,6 +19,13 @@ class ThingsTest(Checks):
         self.says(True, is_row, (None, []), 2)
         for thing in ([], {}, "", [1, 2], "ab", {1: 1, 2: 2}, (1,), (1, 2, 3), None, 2):
             self.says(False, is_row, thing, 2)
+
+    def test_no_more_than_there_may_be(self):
+        for many in (-1, 0, 8):
+            self.assertIsNone(self.told(check_most, many, 8))
+        for many in (9, 10 ** 99):
+            wrong = self.refused(TooGreat, check_most, many, 8)
+            self.assertEqual((wrong.many, wrong.most), (many, 8))
 
     def test_odd_things_are_answered(self):
         for thing in ODD:
