@@ -1,4 +1,4 @@
-"""Boards: what finding hues, and showing that there are none, have in common.
+"""Boards: what finding hues and maps, and showing that there are no hues, have in common.
 
 A row of free spots has, for each place, the tuple of the spots that it may still get; None for a place that is settled.
 """
@@ -7,18 +7,21 @@ from ringhues.webs import all_ends
 
 
 class Board:
-    """A web on a ring, both looked at already, with what is asked of them again and again."""
+    """A web whose places are to get spots, with what is asked of it again and again.
 
-    def __init__(self, web, ring):
-        k, d = ring
+    Apart tells, for each two spots, whether tied places may have them; alike, whether each spot can be turned to
+    each other one, what may be had staying so.
+    """
+
+    def __init__(self, web, apart, alike):
         self.ends = all_ends(web)
-        self.spots = tuple(range(k))
-        self.wide = [min(gap, k - gap) >= d for gap in range(k)]
+        self.spots = tuple(range(len(apart)))
+        self.apart = apart
+        self.alike = alike
 
     def far_apart(self, spot, other):
-        """Whether two spots are at least d apart."""
-        # A gap below 0 counts from the list's end, and so is looked up at k more: the same gap, the other way about.
-        return self.wide[spot - other]
+        """Whether tied places may have two spots."""
+        return self.apart[spot][other]
 
     def settled(self, free, place, spot):
         """The free spots that are left when a place gets a spot."""
@@ -49,3 +52,16 @@ class Board:
     def all_free(self, free):
         """Whether each unsettled place may get every spot."""
         return all([spots is None or spots == self.spots for spots in free])
+
+
+def ring_board(web, ring):
+    """The board of hues of a web on a ring, both looked at already."""
+    k, d = ring
+    wide = [min(gap, k - gap) >= d for gap in range(k)]
+    # A gap below 0 counts from the list's end, and so is looked up at k more: the same gap, the other way about.
+    return Board(web, [[wide[spot - other] for other in range(k)] for spot in range(k)], True)
+
+
+def map_board(web, other):
+    """The board of maps of a web to another one, both looked at already."""
+    return Board(web, [[place in ends for place in range(other[0])] for ends in all_ends(other)], False)

@@ -1,6 +1,6 @@
 """How many hues a web has on a ring, of small webs and rings."""
 
-from ringhues.boards import Board
+from ringhues.boards import ring_board
 from ringhues.rings import check_ring
 from ringhues.things import check_most
 from ringhues.webs import check_web
@@ -48,7 +48,7 @@ def check_few(web, ring):
 
 def fixed_rows(web, ring):
     """All hues that have place 0 at spot 0, as tuples rise, of a web and a ring that are looked at already."""
-    board = Board(web, ring)
+    board = ring_board(web, ring)
     rows = [(0,)]
     for place in range(1, web[0]):
         ahead = [end for end in board.ends[place] if end < place]

@@ -1,6 +1,6 @@
 """Hues found: the first ones, the next ones, and those with known spots."""
 
-from ringhues.boards import Board
+from ringhues.boards import ring_board
 from ringhues.errors import NoHues
 from ringhues.hues import check_hues
 from ringhues.rings import check_ring, is_spot
@@ -12,14 +12,14 @@ def first_hues(web, ring):
     """The first hues of a web on a ring, as tuples rise; None where there are none."""
     check_web(web)
     check_ring(ring)
-    board = Board(web, ring)
+    board = ring_board(web, ring)
     return first_among(board, [board.spots for place in range(web[0])])
 
 
 def next_hues(web, ring, hues):
     """The hues that come next behind some, as tuples rise; None behind the last ones."""
     check_hues(web, ring, hues)
-    board = Board(web, ring)
+    board = ring_board(web, ring)
     # What comes next has as many spots at its head in common as can be.
     for place in reversed(range(web[0])):
         same = [(spot,) for spot in hues[:place]]
@@ -34,7 +34,7 @@ def next_hues(web, ring, hues):
 def first_known(web, ring, known):
     """The first hues that have the known spots, as tuples rise; None where there are none."""
     check_known(web, ring, known)
-    board = Board(web, ring)
+    board = ring_board(web, ring)
     return first_among(board, [board.spots if spot is None else (spot,) for spot in known])
 
 
@@ -52,17 +52,17 @@ def check_known(web, ring, thing):
 
 
 def first_among(board, choices):
-    """The first hues, as tuples rise, that have at each place one of its choices; None where there are none."""
+    """The first row of spots, as tuples rise, with one of its choices at each place; None where there is none."""
     free = tuple(choices)
     answers = {}
     if not can_settle(board, answers, free):
         return None
-    hues = []
+    row = []
     for place in range(len(choices)):
         spot = first_spot(board, answers, free, place)
         free = board.settled(free, place, spot)
-        hues.append(spot)
-    return tuple(hues)
+        row.append(spot)
+    return tuple(row)
 
 
 def first_spot(board, answers, free, place):
@@ -88,7 +88,7 @@ def search(board, answers, free):
     place = board.narrowest(free)
     if place is None:
         return True
-    if board.all_free(free):
-        # Hues turned on are hues, so here the first spot will do just where any other one does.
+    if board.alike and board.all_free(free):
+        # Here the first spot will do just where any other one does.
         return can_settle(board, answers, board.settled(free, place, 0))
     return first_spot(board, answers, free, place) is not None

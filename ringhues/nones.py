@@ -1,6 +1,6 @@
 """Papers that there are no hues with the known spots."""
 
-from ringhues.boards import Board
+from ringhues.boards import ring_board
 from ringhues.found import check_known, first_known
 from ringhues.things import is_row
 from ringhues.webs import is_place
@@ -12,14 +12,14 @@ CASE = "case"
 def none_holds(web, ring, known, thing):
     """Whether whatever is handed in is a paper that there are no hues with the known spots."""
     check_known(web, ring, known)
-    return paper_holds(Board(web, ring), known, thing)
+    return paper_holds(ring_board(web, ring), known, thing)
 
 
 def none_for(web, ring, known):
     """A paper that there are no hues with the known spots; None where there are some."""
     if first_known(web, ring, known) is not None:
         return None
-    board = Board(web, ring)
+    board = ring_board(web, ring)
     free = tuple([board.spots for place in known])
     for place, spot in enumerate(known):
         if is_stuck(board, known, place):

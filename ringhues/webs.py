@@ -77,6 +77,16 @@ def check_place(web, thing):
         raise NoPlace("no place of the web")
 
 
+def are_tied(web, one, other):
+    """Whether two places of a web that is looked at already are tied."""
+    return tie_by(web[0], (one, other)) in web[1]
+
+
+def all_pairs(many):
+    """All ties that so many places may have, as tuples rise."""
+    return [(one, other) for one in range(many) for other in range(one + 1, many)]
+
+
 def tied_to(web, place):
     """What ends_of tells, of a web and a place that are looked at already."""
     ends = [other if one == place else one for one, other in web[1] if place in (one, other)]
