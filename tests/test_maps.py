@@ -163,3 +163,4 @@ class LedHuesTest(Checks):
         self.refused(NoHues, led_hues, WEB, PAIR, (0, 1, 0), RING, (0, 2, 0))
         self.no_web(-1, led_hues, WEB, (2, ((1, 0),)), None, None, None)
         self.no_web(-1, led_hues, None, None, None, None, None)
+        self.no_web(-1, led_hues, (3, ((1, 0),)), PAIR, None, None, None)
